@@ -1,0 +1,1 @@
+"""Dequelogs: the logs of work stealing without clocks."""
