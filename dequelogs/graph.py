@@ -4,11 +4,14 @@ from dequelogs.checks import check_facts, check_place, is_place
 from dequelogs.errors import Conflict
 from dequelogs.logs import all_entries, check_logs, open_lists, steal_places
 
+# A steal by a worker whose log is lost has the place (LOST, item).
+LOST = "?"
+
 
 def precedences(logs):
     """Return the ascending list of the pairs of places of which the first comes before the second."""
     check_logs(logs)
-    return sorted(set(all_pairs(logs)))
+    return sorted(set(all_pairs(logs, steal_places(logs))))
 
 
 def consistent(logs, facts):
@@ -43,13 +46,13 @@ def shows(logs, facts, thing):
 def must_precede(logs, facts, one, other):
     """Return whether the entry at one comes before the entry at other in all runs."""
     check_question(logs, facts, [one, other])
-    return other in places_behind(steps(logs, facts), one)
+    return other in places_behind(steps(logs, facts), [one])
 
 
 def path(logs, facts, one, other):
     """Return places that lead from one to other, or None if one need not come before other."""
     check_question(logs, facts, [one, other])
-    before = places_behind(steps(logs, facts), one)
+    before = places_behind(steps(logs, facts), [one])
     if other not in before:
         return None
     places = [other]
@@ -61,13 +64,13 @@ def path(logs, facts, one, other):
 def needed_before(logs, facts, place):
     """Return the ascending list of the places that come before a place in all runs."""
     check_question(logs, facts, [place])
-    return sorted(places_behind(turned(steps(logs, facts)), place))
+    return sorted(places_behind(turned(steps(logs, facts)), [place]))
 
 
 def needed_after(logs, facts, place):
     """Return the ascending list of the places that come after a place in all runs."""
     check_question(logs, facts, [place])
-    return sorted(places_behind(steps(logs, facts), place))
+    return sorted(places_behind(steps(logs, facts), [place]))
 
 
 def check_question(logs, facts, places):
@@ -86,9 +89,8 @@ def check_consistent(logs, facts):
         raise Conflict(found)
 
 
-def all_pairs(logs):
-    """Return the pairs of precedences in any order, perhaps with duplicates."""
-    steals = steal_places(logs)
+def all_pairs(logs, steals):
+    """Return the pairs of precedences in any order, perhaps with duplicates, given the places of all steals."""
     pairs = []
     for worker, log in logs.items():
         pairs += order_pairs(worker, log)
@@ -171,8 +173,14 @@ def entry_faults(place, entry, held, steals):
 
 def steps(logs, facts):
     """Return for each place the places that directly come after it, perhaps with duplicates."""
-    after = {place: [] for place, entry in all_entries(logs)}
-    for place, later in all_pairs(logs) + facts:
+    places = [place for place, entry in all_entries(logs)]
+    return joined(places, all_pairs(logs, steal_places(logs)) + facts)
+
+
+def joined(places, pairs):
+    """Return for each of the places the places that the pairs put directly after it."""
+    after = {place: [] for place in places}
+    for place, later in pairs:
         after[place].append(later)
     return after
 
@@ -186,10 +194,10 @@ def turned(after):
     return before
 
 
-def places_behind(after, start):
-    """Return each place that the steps lead to from a start, with the place before it on a shortest way."""
+def places_behind(after, starts):
+    """Return each place that the steps lead to from the starts, with the place before it on a shortest way."""
     before = {}
-    reached = [start]
+    reached = list(starts)
     count = 0
     while count < len(reached):
         place = reached[count]
@@ -216,35 +224,48 @@ def find_cycle(after):
 
 def stuck_places(after):
     """Return the places that no order of the steps comes to."""
+    reached = {place: True for place in least_order(after)}
+    return [place for place in after if place not in reached]
+
+
+def least_order(after):
+    """Return the places that an order of the steps comes to, each time the least one that is ready."""
     waits = {place: 0 for place in after}
     for place in after:
         for later in after[place]:
             waits[later] += 1
     ready = [place for place in after if waits[place] == 0]
+    order = []
     while ready:
-        place = ready.pop()
+        place = min(ready)
+        ready.remove(place)
+        order.append(place)
         for later in after[place]:
             waits[later] -= 1
             if waits[later] == 0:
                 ready.append(later)
-    return [place for place in after if waits[place] > 0]
+    return order
 
 
-def is_cycle(logs, facts, places):
-    """Return whether any object is a list of places each of which comes before the next one, and the last the first."""
-    if not isinstance(places, list) or len(places) < 2:
+def is_cycle(logs, facts, thing):
+    """Return whether any object is a list of places that goes round by the precedences and the facts."""
+    if not isinstance(thing, list) or not all([is_place(logs, place) for place in thing]):
         return False
-    if not all([is_place(logs, place) for place in places]):
+    return goes_round(steps(logs, facts), thing)
+
+
+def goes_round(after, places):
+    """Return whether each of two or more different places comes before the next one, and the last before the first."""
+    if len(places) < 2 or len(set(places)) < len(places):
         return False
-    if len(set(places)) < len(places):
-        return False
-    after = steps(logs, facts)
     following = places[1:] + places[:1]
     return all([comes_before(after, place, later) for place, later in zip(places, following)])
 
 
 def comes_before(after, place, later):
     """Return whether a place comes before another one directly or by being earlier in the same log."""
-    if place[0] == later[0] and place[1] < later[1]:
+    # The order of a lost log is lost, too.
+    same_log = place[0] == later[0] and place[0] != LOST
+    if same_log and place[1] < later[1]:
         return True
     return later in after[place]

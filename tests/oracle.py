@@ -169,14 +169,23 @@ def small_logs(most):
     return [logs for logs in candidate_logs(most) if fits_definition(logs)]
 
 
-def chance_logs(chance, workers, many):
-    """Logs that a chance run wrote, and this run as a list of places."""
+def small_cases():
+    """Small logs without facts, and smaller ones with each single fact."""
+    cases = [(logs, []) for logs in small_logs(4)]
+    for logs in small_logs(3):
+        places = all_places(logs)
+        cases += [(logs, [(one, other)]) for one in places for other in places if one != other]
+    return cases
+
+
+def chance_logs(chance, workers, many, names="abcxyz"):
+    """Logs that a chance run wrote, with up to sixty entries each, and this run as a list of places."""
     logs = {worker: [] for worker in workers}
     deques = {worker: [] for worker in workers}
     order = []
-    names = list("abcxyz")
+    names = list(names)
     for _ in range(many):
-        worker = chance.choice(workers)
+        worker = chance.choice([worker for worker in workers if len(logs[worker]) < 60])
         entry = chance_entry(chance, worker, deques, names)
         order.append((worker, len(logs[worker])))
         logs[worker].append(entry)
@@ -233,3 +242,40 @@ def chance_cases(seed, many, longest=7):
                      if one in all_places(logs) and other in all_places(logs)]
         cases.append((logs, facts))
     return cases
+
+
+def great_logs(seed):
+    """Logs of six workers with sixty entries each that a chance run wrote, and this run as a list of places."""
+    names = [first + second for first in "abcdefghijklm" for second in "abcdefghijklm"]
+    return chance_logs(random.Random(seed), list("abcdef"), 360, names)
+
+
+def workers_of(order):
+    """The run of an order of places."""
+    return [worker for worker, index in order]
+
+
+def deques_of(logs, order):
+    """The deques after 0, 1, ... entries of an order of places that is a run."""
+    found = [{worker: [] for worker in sorted(logs)}]
+    for worker, index in order:
+        found.append(replayed(found[-1], worker, logs[worker][index]))
+    return found
+
+
+def places_of(run):
+    """The places of a run."""
+    return [(worker, run[:time].count(worker)) for time, worker in enumerate(run)]
+
+
+def is_true_run(logs, facts, run):
+    """Whether a list of workers is a run, by replaying."""
+    order = places_of(run)
+    if sorted(order) != all_places(logs):
+        return False
+    deques = {worker: [] for worker in logs}
+    for worker, index in order:
+        deques = replayed(deques, worker, logs[worker][index])
+        if deques is None:
+            return False
+    return all(order.index(place) < order.index(other) for place, other in facts)

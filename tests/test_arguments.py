@@ -4,10 +4,11 @@ import copy
 import inspect
 import unittest
 
-from dequelogs import graph, logs as logs_file
-from dequelogs.errors import Conflict, DequeError, NoFacts, NoLogs, NoPlace, NoWorker
+from dequelogs import graph, logs as logs_file, lost, runs, sizes
+from dequelogs.errors import (Conflict, DequeError, NoFacts, NoItem, NoLogs, NoNumber, NoPlace, NoRun, NoWorker,
+                              TooMany)
 from oracle import all_places, example
-from wrong import WRONG_PLACES, wrong_facts, wrong_logs
+from wrong import STRANGE, WRONG_PLACES, wrong_facts, wrong_logs
 
 SIGNATURES = {
     logs_file.is_logs: ["thing"], logs_file.pushes: ["logs"], logs_file.removals: ["logs"],
@@ -17,24 +18,48 @@ SIGNATURES = {
     graph.shows: ["logs", "facts", "thing"], graph.must_precede: ["logs", "facts", "one", "other"],
     graph.path: ["logs", "facts", "one", "other"], graph.needed_before: ["logs", "facts", "place"],
     graph.needed_after: ["logs", "facts", "place"],
+    runs.is_run: ["logs", "facts", "thing"], runs.replay: ["logs", "run"], runs.least_run: ["logs", "facts"],
+    runs.run_count: ["logs", "facts"], runs.nth_run: ["logs", "facts", "number"],
+    runs.run_number: ["logs", "facts", "run"], runs.share_before: ["logs", "facts", "one", "other"],
+    runs.positions: ["logs", "facts", "place"], runs.run_with: ["logs", "facts", "place", "position"],
+    sizes.size_range: ["logs", "facts", "worker", "place"], sizes.greatest_size: ["logs", "facts", "worker"],
+    sizes.can_meet: ["logs", "facts", "item", "other_item"],
+    sizes.can_be_empty: ["logs", "facts", "workers", "after", "before"],
+    sizes.empty_moment: ["logs", "facts", "workers", "after", "before"],
+    lost.lost_reason: ["logs"], lost.shows_lost: ["logs", "thing"], lost.lost_needed: ["logs"],
+    lost.lost_possible: ["logs"], lost.lost_run: ["logs"], lost.lost_count: ["logs"],
 }
 
 # The error that is due for an argument of this name, in the order of checking.
 ERRORS = {"logs": NoLogs, "facts": NoFacts, "worker": NoWorker, "index": NoPlace, "one": NoPlace, "other": NoPlace,
-          "place": NoPlace}
+          "place": NoPlace, "number": NoNumber, "run": NoRun, "item": NoItem, "other_item": NoItem,
+          "workers": NoWorker, "after": NoPlace, "before": NoPlace}
+
+# The functions that raise Conflict for facts that contradict, and the ones that count.
+WITH_CONFLICT = [graph.must_precede, graph.path, graph.needed_before, graph.needed_after, runs.least_run,
+                 runs.share_before, runs.positions, runs.run_with, sizes.size_range, sizes.greatest_size,
+                 sizes.can_meet, sizes.can_be_empty, sizes.empty_moment]
+COUNTING = [runs.run_count, runs.nth_run, runs.run_number, runs.share_before]
 
 
 def good_values():
     """One valid argument for each name."""
     logs = {"b": example()["b"], "a": example()["a"], "c": []}
     return {"logs": logs, "facts": [(("a", 2), ("b", 1)), (("a", 2), ("b", 1))], "worker": "a", "index": 4,
-            "one": ("a", 0), "other": ("b", 1), "place": ("b", 0), "thing": ("cycle", [("a", 0), ("b", 0)])}
+            "one": ("a", 0), "other": ("b", 1), "place": ("b", 0), "thing": ("cycle", [("a", 0), ("b", 0)]),
+            "run": list("aabaaba"), "number": 2, "position": 3, "item": "x", "other_item": "z", "workers": ["a", "c"],
+            "after": ("a", 0), "before": ("a", 3)}
 
 
 def wrong_values():
     """Wrong arguments for each name."""
+    moments = [place for place in WRONG_PLACES if place is not None]
+    no_runs = STRANGE + [[], "aabaaba", tuple("aabaaba"), list("aaaabab"), list("aabaab"), [("a", 0)], ["a"] * 7]
+    no_workers = STRANGE + ["ac", ("a", "c"), ["c", "a"], ["a", "a"], ["a", "d"], ["a", None], ["a", ["c"]], {"a": 0}]
     return {"logs": wrong_logs(), "facts": wrong_facts(), "worker": ["", "d", "A", "a b"],
-            "index": [5, -1, 10 ** 59, -10 ** 59], "one": WRONG_PLACES, "other": WRONG_PLACES, "place": WRONG_PLACES}
+            "index": [5, -1, 10 ** 59, -10 ** 59], "one": WRONG_PLACES, "other": WRONG_PLACES, "place": WRONG_PLACES,
+            "number": [4, -1, 10 ** 59, -10 ** 59], "run": no_runs, "workers": no_workers, "after": moments,
+            "before": moments, "item": ["", "q", "a", "X", "x y"], "other_item": ["", "q", "a", "X", "x y"]}
 
 
 def lists_in(thing):
@@ -50,8 +75,9 @@ class Interface(unittest.TestCase):
     def test_names_and_homes(self):
         for function, names in SIGNATURES.items():
             self.assertEqual(list(inspect.signature(function).parameters), names)
-            home = "dequelogs.logs" if function.__name__ in vars(logs_file) else "dequelogs.graph"
-            self.assertEqual(function.__module__, home)
+            homes = [file for file in (logs_file, graph, runs, sizes, lost)
+                     if vars(file).get(function.__name__) is function]
+            self.assertEqual([file.__name__ for file in homes][:1], [function.__module__])
 
     def test_arguments_by_position_and_by_name(self):
         for function, names in SIGNATURES.items():
@@ -89,10 +115,24 @@ class Wrong(unittest.TestCase):
                 self.raises(ERRORS[first], function, values)
 
     def test_conflict_comes_last(self):
-        for function in (graph.must_precede, graph.path, graph.needed_before, graph.needed_after):
+        for function in WITH_CONFLICT:
             values = {name: good_values()[name] for name in SIGNATURES[function]}
             values["facts"] = [(("a", 4), ("a", 0))]
             self.raises(Conflict, function, values)
+
+    def test_too_many_comes_directly_after_facts(self):
+        for function in COUNTING:
+            names = SIGNATURES[function]
+            values = {name: wrong_values()[name][-1] if name in wrong_values() else None for name in names}
+            values["logs"] = {worker: [("size", 0)] * 60 for worker in "abc"}
+            for facts in ([], [(("a", 4), ("a", 0))]):
+                values["facts"] = facts
+                self.raises(TooMany, function, values)
+                values["logs"]["c"].append(("size", 0))
+                self.raises(NoLogs, function, values)
+                values["logs"]["c"].pop()
+                values["facts"] = facts + [(("a", 0), ("a", 60))]
+                self.raises(NoFacts, function, values)
 
     def test_places_of_other_logs(self):
         logs = {"a": [("size", 0)]}
@@ -128,7 +168,7 @@ class Results(unittest.TestCase):
                 before = copy.deepcopy(values)
                 try:
                     function(**values)
-                except Conflict:
+                except (Conflict, NoNumber, NoRun):
                     pass
                 self.assertEqual(values, before, function)
                 if "logs" in values:
@@ -186,12 +226,61 @@ class Results(unittest.TestCase):
         facts.append((("a", 4), ("a", 0)))
         self.assertFalse(graph.consistent(example(), facts))
 
+    def test_all_arguments_that_are_changed_in_place_are_read_anew(self):
+        for function, names in SIGNATURES.items():
+            values = {name: good_values()[name] for name in names}
+            function(**values)
+            if "logs" in values:
+                values["logs"]["a"].append(("size", 1))
+                values["logs"]["b"].append(("push", "w"))
+                values["logs"]["c"] += [("size", 0), ("steal", "b", "w")]
+            if "facts" in values:
+                values["facts"].append((("c", 1), ("a", 4)))
+            if "run" in values:
+                values["run"] += list("abcc")
+            if "workers" in values:
+                values["workers"].insert(1, "b")
+            answer = self.answer(function, values)
+            self.assertEqual(answer, self.answer(function, copy.deepcopy(values)), function)
+            # The changed logs contradict, so most answers differ.
+            if function.__module__ not in ("dequelogs.logs", "dequelogs.graph") and "thing" not in names:
+                good = {name: good_values()[name] for name in names}
+                self.assertNotEqual(answer, self.answer(function, good), function)
+
+    def answer(self, function, values):
+        try:
+            return function(**values)
+        except DequeError as error:
+            return [type(error), getattr(error, "reason", None)]
+
+    def test_lists_in_reasons_are_new(self):
+        logs = {"a": [("steal", "b", "y"), ("push", "x")], "b": [("steal", "a", "x"), ("push", "y")]}
+        found = [lost.lost_reason(logs)[1], lost.lost_reason(logs)[1], graph.reason(logs, [])[1]]
+        for call in (lambda: lost.lost_run(logs), lambda: runs.least_run(logs, []), lambda: lost.lost_needed(logs),
+                     lambda: sizes.greatest_size(logs, [], "a")):
+            with self.assertRaises(Conflict) as caught:
+                call()
+            found.append(caught.exception.reason[1])
+        self.assertEqual(len({id(places) for places in found}), len(found))
+
     def test_results_may_be_passed_back(self):
         pairs = graph.precedences(example())
         self.assertTrue(graph.consistent(example(), pairs))
         self.assertEqual(graph.precedences(example()), pairs)
         for place in logs_file.pushes(example()).values():
             self.assertIs(graph.must_precede(example(), pairs, place, ("a", 4)), True)
+        count = runs.run_count(example(), pairs)
+        for number in range(count):
+            run = runs.nth_run(example(), pairs, number)
+            self.assertIs(runs.is_run(example(), pairs, run), True)
+            self.assertEqual(runs.run_number(example(), pairs, run), number)
+            self.assertEqual(len(runs.replay(example(), run)), 8)
+        for position in runs.positions(example(), [], ("b", 0)):
+            self.assertTrue(runs.is_run(example(), [], runs.run_with(example(), [], ("b", 0), position)))
+        run, moment = sizes.empty_moment(example(), [], ["a"], None, None)
+        self.assertIs(runs.is_run(example(), [], run), True)
+        logs = {"a": [("push", "x"), ("size", 0), ("size", 1)]}
+        self.assertIs(lost.shows_lost(logs, lost.lost_reason(logs)), True)
 
 
 if __name__ == "__main__":
