@@ -4,7 +4,7 @@ import copy
 import inspect
 import unittest
 
-from dequelogs import graph, logs as logs_file, lost, runs, sizes
+from dequelogs import graph, logs as logs_file, lost, repair, runs, sizes
 from dequelogs.errors import (Conflict, DequeError, NoFacts, NoItem, NoLogs, NoNumber, NoPlace, NoRun, NoWorker,
                               TooMany)
 from oracle import all_places, example
@@ -28,6 +28,7 @@ SIGNATURES = {
     sizes.empty_moment: ["logs", "facts", "workers", "after", "before"],
     lost.lost_reason: ["logs"], lost.shows_lost: ["logs", "thing"], lost.lost_needed: ["logs"],
     lost.lost_possible: ["logs"], lost.lost_run: ["logs"], lost.lost_count: ["logs"],
+    repair.without: ["logs", "facts", "place"], repair.repairs: ["logs", "facts"],
 }
 
 # The error that is due for an argument of this name, in the order of checking.
@@ -75,7 +76,7 @@ class Interface(unittest.TestCase):
     def test_names_and_homes(self):
         for function, names in SIGNATURES.items():
             self.assertEqual(list(inspect.signature(function).parameters), names)
-            homes = [file for file in (logs_file, graph, runs, sizes, lost)
+            homes = [file for file in (logs_file, graph, runs, sizes, lost, repair)
                      if vars(file).get(function.__name__) is function]
             self.assertEqual([file.__name__ for file in homes][:1], [function.__module__])
 
